@@ -1,0 +1,1 @@
+"""Cutbehind: hurried cutters beside the cheapest cut, decided for all texts."""

@@ -1,0 +1,1 @@
+"""Signs, texts and pieces; books, and books compared."""
