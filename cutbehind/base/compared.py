@@ -1,26 +1,18 @@
 """Books compared by their least prices of all texts."""
 
-from cutbehind.base.books import Book
-from cutbehind.errors import InvalidBook, InvalidOperation
+from cutbehind.base.checks import check_book
+from cutbehind.base.least import prices_of_beginnings
+from cutbehind.errors import InvalidOperation
 
 
 def _least_price(book, text):
     """The least price of all cuts of a text over the book."""
-    least = [0]
-    for end in range(1, len(text) + 1):
-        last = [piece for piece in book if text[:end].endswith(piece)]
-        least.append(min([least[end - len(piece)] + book[piece] for piece in last]))
-    return least[-1]
-
-
-def _check_book(book):
-    if not isinstance(book, Book):
-        raise InvalidBook("a book is needed")
+    return prices_of_beginnings(book, text)[-1]
 
 
 def _check_books(book, other):
-    _check_book(book)
-    _check_book(other)
+    check_book(book)
+    check_book(other)
     if book.alphabet != other.alphabet:
         raise InvalidOperation("the alphabets of the books differ")
 
@@ -46,7 +38,7 @@ def are_as_cheap(book, other):
 
 def needless(book):
     """The pieces of several signs that a cut into more pieces makes as cheaply, ascending."""
-    _check_book(book)
+    check_book(book)
     several = [piece for piece in book if len(piece) > 1]
     # Without the piece itself, all cuts of it have at least two pieces.
     return tuple([piece for piece in several if _least_price(book - (piece,), piece) <= book[piece]])

@@ -1,0 +1,1 @@
+"""How far a cutter falls behind, by amount and by fraction."""

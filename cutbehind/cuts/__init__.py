@@ -1,0 +1,1 @@
+"""Cuts of texts, and the cutters that make them."""

@@ -1,0 +1,73 @@
+"""Fronts of a book: how the least price of a text goes on."""
+
+from cutbehind.base.checks import check_book, check_sign, check_text
+from cutbehind.base.signs import is_integer
+from cutbehind.errors import InvalidNumber, InvalidStand
+from cutbehind.fronts.steps import EMPTY_FRONT, front_behind, front_step, has_form_of_front, shortest_texts
+
+MAX_FRONTS = 2000
+
+
+def _reached_fronts(book):
+    """A dict from each front of a text to a shortest text."""
+    def step(front, sign):
+        return front_step(book, front, sign)[0]
+
+    return shortest_texts(EMPTY_FRONT, book.alphabet, step, MAX_FRONTS)
+
+
+def front_of(book, text):
+    """The front of the text."""
+    check_book(book)
+    check_text(book, text)
+    return front_behind(book, text)
+
+
+def next_front(book, front, sign):
+    """The front when a further sign is read, and the change of the least price."""
+    check_book(book)
+    if not has_form_of_front(book, front):
+        raise InvalidStand("a front is a pair of signs and as many integers")
+    check_sign(book, sign)
+    return front_step(book, front, sign)
+
+
+class Fronts:
+    """The reached fronts of a book; it never changes."""
+
+    def __init__(self, book):
+        check_book(book)
+        self._book = book
+        self._found = _reached_fronts(book)
+        self._rows = tuple(sorted(self._found))
+
+    @property
+    def rows(self):
+        """The fronts, ascending."""
+        return self._rows
+
+    @property
+    def spread(self):
+        """The greatest absolute value of all differences."""
+        return max([abs(number) for signs, differences in self._rows for number in differences], default=0)
+
+    def __iter__(self):
+        return iter(self._rows)
+
+    def __len__(self):
+        return len(self._rows)
+
+    def __contains__(self, value):
+        # True and 1 are one key of a dict, but only 1 is an integer.
+        return has_form_of_front(self._book, value) and value in self._found
+
+    def __getitem__(self, front):
+        if front not in self:
+            raise InvalidStand("no text has this front")
+        return self._found[front]
+
+    def layer(self, many):
+        """The fronts whose shortest texts have so many signs, ascending."""
+        if not is_integer(many) or many < 0:
+            raise InvalidNumber(many)
+        return tuple([front for front in self._rows if len(self._found[front]) == many])

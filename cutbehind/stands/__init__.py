@@ -1,0 +1,1 @@
+"""Stands of cutters that have read a text that may go on."""

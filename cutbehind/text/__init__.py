@@ -1,0 +1,1 @@
+"""Books and cutters, written and read."""

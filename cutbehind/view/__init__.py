@@ -1,0 +1,1 @@
+"""Pieces that are safe, whatever follows."""
