@@ -1,6 +1,7 @@
 """The form of the package's files, as far as a short test can see it."""
 
 import ast
+import builtins
 import unittest
 from pathlib import Path
 
@@ -64,3 +65,29 @@ class Form(unittest.TestCase):
                     self.assertIsInstance(node.value, ast.Constant, name)
                 else:
                     self.assertIsInstance(node, allowed, name)
+
+    def test_names(self):
+        for name, tree in trees():
+            imported = {alias.name for node in tree.body if isinstance(node, ast.ImportFrom) for alias in node.names}
+            classes = {node.name for node in tree.body if isinstance(node, ast.ClassDef)}
+            for function in ast.walk(tree):
+                if isinstance(function, ast.FunctionDef):
+                    nodes = list(ast.walk(function))
+                    bound = {node.arg for node in nodes if isinstance(node, ast.arg)}
+                    stored = [node for node in nodes if isinstance(getattr(node, "ctx", None), ast.Store)]
+                    bound |= {node.id for node in stored if isinstance(node, ast.Name)}
+                    self.assertFalse(bound & (imported | classes | set(dir(builtins))), (name, function.name))
+
+    def test_lists_in_place_of_generator_expressions(self):
+        for name, tree in trees():
+            for node in ast.walk(tree):
+                self.assertNotIsInstance(node, ast.GeneratorExp, name)
+
+    def test_methods_and_attributes_have_names_of_their_own(self):
+        nodes = [node for _, tree in trees() for node in ast.walk(tree)]
+        classes = [node for node in nodes if isinstance(node, ast.ClassDef)]
+        methods = {part.name for node in classes for part in node.body if isinstance(part, ast.FunctionDef)}
+        stored = {node.attr for node in nodes if isinstance(node, ast.Attribute) and isinstance(node.ctx, ast.Store)}
+        self.assertFalse(methods & stored)
+        for name in sorted(stored | {name for name in methods if not name.startswith("__")}):
+            self.assertFalse(any(hasattr(kind, name) for kind in (int, str, list, dict, set, bytes)), name)

@@ -1,6 +1,5 @@
 """Cutters, which tell each piece from the next few signs alone."""
 
-from cutbehind.base.books import Book
 from cutbehind.base.checks import check_book, check_text
 from cutbehind.base.least import prices_of_beginnings, prices_of_rests
 from cutbehind.base.signs import is_integer

@@ -1,9 +1,9 @@
 """Stands of a cutter that has read a text of any length, without checks."""
 
 from cutbehind.base.least import prices_of_beginnings
-from cutbehind.fronts.steps import EMPTY_FRONT, front_behind, front_step, has_form_of_front, shortest_texts
+from cutbehind.fronts.steps import front_behind, front_step, has_form_of_front, shortest_texts
 
-EMPTY_STAND = (EMPTY_FRONT, "")
+EMPTY_STAND = (("", ()), "")
 
 
 def has_form_of_stand(cutter, value):

@@ -53,7 +53,7 @@ def beside_step(book, beside, sign):
         back = len(piece) - 1
         if back > 0 and longer.endswith(piece) and losses[back] != NO_LOSS:
             costs.append(prices[piece] + differences[back - 1] + losses[back])
-    return further, (min(costs) - change, *losses[:-1])
+    return further, (min(costs) - change,) + losses[:-1]
 
 
 def check_few(book, piece, limit):
@@ -63,9 +63,7 @@ def check_few(book, piece, limit):
         # A piece that is lost stays lost.
         return further if 0 in further[1] else None
 
-    start = beside_behind(book, piece, piece)
-    if 0 in start[1]:
-        shortest_texts(start, book.alphabet, step, limit)
+    shortest_texts(beside_behind(book, piece, piece), book.alphabet, step, limit)
 
 
 def besides_without_loss(book, start, limit):

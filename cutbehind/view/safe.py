@@ -49,7 +49,6 @@ def against(book, text, piece):
 def safe_pieces(book, text):
     """The pieces that are safe at the text, ascending."""
     check_book(book)
-    check_text(book, text)
     return tuple([piece for piece in book.starting(text) if is_safe(book, text, piece)])
 
 
