@@ -49,17 +49,17 @@ def shortest_texts(first, alphabet, step, limit):
     does not count.
     """
     found = {first: ""}
-    layer = [first]
-    while layer:
-        further = []
-        for value in layer:
-            for sign in alphabet:
-                reached = step(value, sign)
-                if reached is None or reached in found:
-                    continue
-                if len(found) == limit:
-                    raise TooMany(limit)
-                found[reached] = found[value] + sign
-                further.append(reached)
-        layer = further
+    values = [first]
+    place = 0
+    while place < len(values):
+        value = values[place]
+        place = place + 1
+        for sign in alphabet:
+            reached = step(value, sign)
+            if reached is None or reached in found:
+                continue
+            if len(found) == limit:
+                raise TooMany(limit)
+            found[reached] = found[value] + sign
+            values.append(reached)
     return found
