@@ -40,6 +40,25 @@ FUNCTIONS = {
         "beside_of": "book text piece", "next_beside": "book beside sign", "safe_paper": "book text piece",
         "is_safe_paper": "book text piece value",
     },
+    "cutbehind.view.least": {
+        "minimal_windows": "book", "least_view": "book", "view_paper": "book", "is_view_paper": "book value",
+        "cutter_by": "book paper",
+    },
+    "cutbehind.pairs.races": {"Race": "one other"},
+    "cutbehind.pairs.edits": {
+        "boundaries": "cutter text", "common_boundary": "cutter old new rest", "recut": "cutter text start stop signs",
+        "meets_within": "cutter", "meeting_paper": "cutter", "is_meeting_paper": "cutter value",
+    },
+    "cutbehind.menus.menus": {"Menu": "cutter pieces"},
+    "cutbehind.bounds.lengths": {
+        "worst_by_length": "cutter many", "worst_of_length": "cutter many", "count_worst": "cutter many",
+        "all_worst": "cutter many", "is_worst": "cutter value",
+    },
+    "cutbehind.live.feeders": {"Feeder": "cutter", "SafeFeeder": "book"},
+    "cutbehind.live.shelf": {
+        "Shelf": "cutter * texts", "Guard": "most", "GuardedShelf": "cutter * most texts",
+    },
+    "cutbehind.text.shell": {"Shell": "text"},
 }
 METHODS = {
     ("cutbehind.base.books", "Book"): {
@@ -58,12 +77,39 @@ METHODS = {
     ("cutbehind.stands.stands", "Stands"): {
         "__iter__": "", "__len__": "", "__contains__": None, "__getitem__": None,
     },
+    ("cutbehind.pairs.races", "Race"): {
+        "turned": "", "__getitem__": None, "__contains__": None, "__len__": "", "__eq__": None, "__str__": "",
+        "lead": "text", "greatest": "", "fraction": "", "first_lead": "", "paper": "", "rate_paper": "",
+        "is_paper": "value", "is_rate_paper": "value",
+    },
+    ("cutbehind.menus.menus", "Menu"): {
+        "parts": "", "cutter_with": "part", "is_good": "part", "reason": "part", "good": "", "least": "",
+        "spoilers": "", "paper": "", "is_paper": "value", "__contains__": None, "__len__": "", "__iter__": "",
+        "__eq__": None, "__str__": "",
+    },
+    ("cutbehind.live.feeders", "Feeder"): {
+        "feed": "signs", "__iadd__": None, "end": "", "behind": "", "__len__": "", "__iter__": "", "__getitem__": None,
+        "__bool__": "", "__eq__": None, "__str__": "", "undo": "* many", "trial": "", "during": "call", "twin": "",
+    },
+    ("cutbehind.live.shelf", "Shelf"): {
+        "__setitem__": None, "put": "name text", "drop": "name", "edit": "name start stop signs", "__getitem__": None,
+        "cut": "name", "price": "name", "behind": "name", "__contains__": None, "__len__": "", "__iter__": "",
+        "__eq__": None, "__str__": "", "watch": "call", "unwatch": "call", "undo": "* many", "redo": "* many",
+        "group": "", "together": "call",
+    },
+    ("cutbehind.live.shelf", "Guard"): {"allows": "cutter text", "is_needless": "cutter most"},
+    ("cutbehind.text.shell", "Shell"): {"shelf": "", "__call__": "line", "run": "line"},
 }
 PROPERTIES = {
     ("cutbehind.base.books", "Book"): "prices pieces alphabet longest dearest",
     ("cutbehind.cuts.cutters", "Cutter"): "book order view table ends",
     ("cutbehind.fronts.fronts", "Fronts"): "rows spread",
     ("cutbehind.stands.stands", "Stands"): "rows first",
+    ("cutbehind.pairs.races", "Race"): "one other pairs",
+    ("cutbehind.menus.menus", "Menu"): "cutter pieces",
+    ("cutbehind.live.feeders", "Feeder"): "told waiting text spent is_ended source",
+    ("cutbehind.live.shelf", "Shelf"): "cutter names texts total lag",
+    ("cutbehind.live.shelf", "Guard"): "most",
 }
 CONSTANTS = {
     "cutbehind.base.books": {
@@ -74,6 +120,13 @@ CONSTANTS = {
     "cutbehind.fronts.fronts": {"MAX_FRONTS": 2000},
     "cutbehind.stands.stands": {"MAX_STANDS": 2000},
     "cutbehind.view.safe": {"MAX_BESIDES": 2000},
+    "cutbehind.view.least": {"MAX_FANS": 2000, "MAX_MINIMAL": 2000},
+    "cutbehind.pairs.races": {"MAX_PAIRS": 2000},
+    "cutbehind.pairs.edits": {"MAX_WAITING": 121},
+    "cutbehind.menus.menus": {"MAX_MENU": 6},
+    "cutbehind.bounds.lengths": {"MAX_LENGTHS": 400},
+    "cutbehind.live.feeders": {"MAX_FED": 8000},
+    "cutbehind.live.shelf": {"MAX_TEXTS": 50},
 }
 
 

@@ -2,7 +2,7 @@
 
 # MAX_LENGTH and MAX_SIGNS are constants of this module, too. They are defined beside
 # is_text and is_piece, which need them, as two files must not import from each other.
-from cutbehind.base.signs import MAX_LENGTH, MAX_SIGNS, is_integer, is_piece, is_text
+from cutbehind.base.signs import MAX_LENGTH, MAX_SIGNS, is_integer, is_piece
 from cutbehind.errors import InvalidBook, InvalidNumber, InvalidOperation, InvalidText, UnknownPiece
 
 MAX_PIECES = 12
@@ -10,7 +10,8 @@ MAX_ALPHABET = 4
 MAX_PRICE = 99
 
 
-def _is_price(value):
+def is_price(value):
+    """Whether the value is a price."""
     return is_integer(value) and 1 <= value <= MAX_PRICE
 
 
@@ -23,11 +24,20 @@ def _signs_in(pieces):
     return tuple(sorted(set("".join(pieces))))
 
 
+def _longer_pieces(prices, alphabet, place):
+    """For each sign the pieces of several signs that have it at this place, with their numbers of signs and prices."""
+    found = {sign: [] for sign in alphabet}
+    for piece, price in prices.items():
+        if len(piece) > 1:
+            found[piece[place]].append((piece, len(piece), price))
+    return found
+
+
 def _are_prices(value):
     """Whether the value is a dict that makes a book."""
     if not isinstance(value, dict) or not 1 <= len(value) <= MAX_PIECES:
         return False
-    if not all([is_piece(piece) and _is_price(price) for piece, price in value.items()]):
+    if not all([is_piece(piece) and is_price(price) for piece, price in value.items()]):
         return False
     alphabet = _signs_in(list(value))
     return len(alphabet) <= MAX_ALPHABET and all([sign in value for sign in alphabet])
@@ -61,6 +71,10 @@ class Book:
         self._alphabet = _signs_in(self._pieces)
         self._longest = max([len(piece) for piece in self._pieces])
         self._dearest = max(self._prices.values())
+        # What follows is for the other modules: the pieces by their last and first signs, and what they found out once.
+        self.ending = _longer_pieces(self._prices, self._alphabet, -1)
+        self.heading = _longer_pieces(self._prices, self._alphabet, 0)
+        self.kept = {}
 
     @classmethod
     def of(cls, pairs):
@@ -117,7 +131,10 @@ class Book:
 
     def accepts(self, value):
         """Whether the value is a text over the book, of at most 8000 signs."""
-        return is_text(value) and all([sign in self._alphabet for sign in sorted(set(value))])
+        # A string that has only signs of the alphabet is a text if it is not too long.
+        if not isinstance(value, str) or len(value) > MAX_SIGNS:
+            return False
+        return len(set(value) - set(self._alphabet)) == 0
 
     def starting(self, text):
         """The pieces with which a text over the book begins, ascending."""
@@ -129,7 +146,7 @@ class Book:
         """The book with this piece at this price."""
         if not is_piece(piece):
             raise InvalidText("a piece of one to five signs is needed")
-        if not _is_price(price):
+        if not is_price(price):
             raise InvalidNumber(price)
         return _result({**self._prices, piece: price})
 

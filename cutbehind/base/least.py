@@ -5,9 +5,13 @@ def prices_of_beginnings(book, text):
     """The least price of each beginning of the text, from the empty one to the whole text."""
     prices = book.prices
     least = [0]
-    for end in range(1, len(text) + 1):
-        last = [piece for piece in prices if text.endswith(piece, 0, end)]
-        least.append(min([least[end - len(piece)] + prices[piece] for piece in last]))
+    for place, sign in enumerate(text):
+        end = place + 1
+        best = least[place] + prices[sign]
+        for piece, many, price in book.ending[sign]:
+            if text.endswith(piece, 0, end) and least[end - many] + price < best:
+                best = least[end - many] + price
+        least.append(best)
     return least
 
 
@@ -16,6 +20,9 @@ def prices_of_rests(book, text):
     prices = book.prices
     least = [0] * (len(text) + 1)
     for place in range(len(text) - 1, -1, -1):
-        following = [piece for piece in prices if text.startswith(piece, place)]
-        least[place] = min([prices[piece] + least[place + len(piece)] for piece in following])
+        best = least[place + 1] + prices[text[place]]
+        for piece, many, price in book.heading[text[place]]:
+            if text.startswith(piece, place) and least[place + many] + price < best:
+                best = least[place + many] + price
+        least[place] = best
     return least

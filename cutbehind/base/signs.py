@@ -2,11 +2,21 @@
 
 MAX_SIGNS = 8000
 MAX_LENGTH = 5
+# The least integer of more than sixty digits.
+TOO_GREAT = 10 ** 60
 
 
 def is_integer(value):
     """Whether the value is an integer of at most sixty digits."""
-    return isinstance(value, int) and not isinstance(value, bool) and abs(value) < 10 ** 60
+    return isinstance(value, int) and not isinstance(value, bool) and -TOO_GREAT < value < TOO_GREAT
+
+
+def are_integers(numbers):
+    """Whether all values of a list or a tuple are integers of at most sixty digits."""
+    for number in numbers:
+        if type(number) is not int or not -TOO_GREAT < number < TOO_GREAT:
+            return False
+    return True
 
 
 def is_sign(value):

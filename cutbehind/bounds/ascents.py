@@ -1,28 +1,12 @@
-"""Greatest sums of weights along texts, by the stands of a cutter."""
+"""Greatest sums of weights along texts, by the places of a graph."""
 
 START = -1
 
 
-def _raise_targets(ascent, place, steps):
-    """Raises the sums to which these steps lead; returns whether there was one to raise."""
-    base = 0 if place == START else ascent.sums[place]
-    raised = False
-    for index, (target, weight) in enumerate(steps):
-        if target not in ascent.sums or base + weight > ascent.sums[target]:
-            ascent.sums[target] = base + weight
-            ascent.before[target] = (place, index)
-            raised = True
-    return raised
-
-
-def _weighted(steps, p, q):
-    return [(target, q * price - p * change) for target, price, change in steps]
-
-
-def _ring_place(before):
-    """A stand to which the steps back return, or None."""
+def _ring_place(before, starts):
+    """A place to which the steps back from one of the starts return, or None."""
     seen = {}
-    for start in before:
+    for start in starts:
         place = start
         while place in before and place not in seen:
             seen[place] = start
@@ -33,35 +17,56 @@ def _ring_place(before):
 
 
 class Ascent:
-    """For each stand the greatest sum of q times what is told minus p times the change of the least price.
+    """For each place the greatest sum of q times what the one side pays minus p times what the other side pays.
 
-    The sums are those of the texts of at least one sign. If they grow along a ring, ring is a stand on it.
+    The sums are those of the texts of at least one sign. If they grow along a ring, ring is a place on it.
     """
 
     def __init__(self, graph, p, q):
-        self.graph = graph
         self.sums = {}
-        self.before = {}
         self.ring = None
-        self._climb([_weighted(steps, p, q) for steps in graph.steps])
+        self._graph = graph
+        self._before = {}
+        self._finals = graph.final_weights(p, q)
+        self._climb(graph.weights(p, q))
+
+    def _raise_targets(self, place, row):
+        """Raises the sums to which the steps from a place lead; returns the places whose sums were raised."""
+        base = 0 if place == START else self.sums[place]
+        raised = []
+        for index, (target, weight) in enumerate(row):
+            if target not in self.sums or base + weight > self.sums[target]:
+                self.sums[target] = base + weight
+                self._before[target] = (place, index)
+                raised.append(target)
+        return raised
 
     def _climb(self, rows):
         """Raises the sums until none can be raised, or until a ring is found."""
-        raised = _raise_targets(self, START, rows[0])
+        # Steps are tried again only from places whose sums were raised.
+        waiting = [False] * len(rows)
+        raised = {target: True for target in self._raise_targets(START, rows[0])}
+        for target in raised:
+            waiting[target] = True
         while raised and self.ring is None:
-            raised = False
+            raised = {}
             for place, row in enumerate(rows):
-                if place in self.sums and _raise_targets(self, place, row):
-                    raised = True
-            self.ring = _ring_place(self.before)
+                if waiting[place]:
+                    waiting[place] = False
+                    for target in self._raise_targets(place, row):
+                        waiting[target] = True
+                        raised[target] = True
+            # Only a place whose sum was raised can have closed a ring.
+            if _ring_place(self._before, list(raised)) is not None:
+                self.ring = _ring_place(self._before, list(self._before))
 
     def _text_between(self, start, stop):
-        """The signs of the steps from a stand, or from before the first sign, to another one."""
+        """The signs of the steps from a place, or from before the first sign, to another one."""
         signs = []
         place = stop
         while not signs or place != start:
-            place, index = self.before[place]
-            signs.append(self.graph.signs[index])
+            place, index = self._before[place]
+            signs.append(self._graph.signs[index])
         return "".join(signs[::-1])
 
     def text_to(self, place):
@@ -70,11 +75,10 @@ class Ascent:
 
     def ring_texts(self):
         """A text to the ring, and one along the whole ring."""
-        return self.graph.shortest[self.ring], self._text_between(self.ring, self.ring)
+        return self._graph.shortest[self.ring], self._text_between(self.ring, self.ring)
 
-    def best(self, q):
-        """The greatest sum with q times the end price, and the stand at which it is."""
-        ends = self.graph.end_prices
-        greatest = max([self.sums[place] + q * ends[place] for place in self.sums])
-        places = [place for place in self.sums if self.sums[place] + q * ends[place] == greatest]
+    def best(self):
+        """The greatest sum with what is paid at the end, and the first place at which it is."""
+        greatest = max([self.sums[place] + self._finals[place] for place in self.sums])
+        places = [place for place in self.sums if self.sums[place] + self._finals[place] == greatest]
         return greatest, places[0]

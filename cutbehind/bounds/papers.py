@@ -1,7 +1,6 @@
-"""What the papers about amounts and about fractions have in common."""
+"""What the papers about amounts and about fractions have in common, whatever the nodes of the graph are."""
 
-from cutbehind.base.signs import is_integer
-from cutbehind.stands.steps import spent_behind, stand_behind
+from cutbehind.base.signs import are_integers
 
 
 def is_paper_of(value, name, many):
@@ -9,37 +8,49 @@ def is_paper_of(value, name, many):
     return isinstance(value, tuple) and len(value) == many and value[0] == name
 
 
-def growth(cutter, u, v):
-    """What is told and the least price, from the text u to uv, if both have the same stand; else None."""
-    book = cutter.book
+def growth(book, graph, u, v):
+    """What both sides pay from the text u to uv, if both texts lead to the same place; else None."""
     if not book.accepts(u) or not book.accepts(v) or v == "":
         return None
-    if stand_behind(cutter, u) != stand_behind(cutter, u + v):
+    place, one, other = graph.walk(u)
+    further, more_one, more_other = graph.walk(u + v)
+    if place != further:
         return None
-    told, least = spent_behind(cutter, u)
-    more_told, more_least = spent_behind(cutter, u + v)
-    return more_told - told, more_least - least
+    return more_one - one, more_other - other
 
 
-def do_rise(graph, numbers, p, q):
-    """Whether the integers are at least what the steps between their stands ask for."""
-    for stand, steps in zip(graph.stands, graph.steps):
-        if stand not in numbers:
+def numbers_at(graph, places, numbers):
+    """A list of the integer of each place, if the value is a dict from just the nodes of these places; else None.
+
+    The integer is None for every other place.
+    """
+    if not isinstance(numbers, dict) or len(numbers) != len(places) or not are_integers(list(numbers.values())):
+        return None
+    found = [None] * len(graph.nodes)
+    for place in places:
+        if graph.nodes[place] not in numbers:
+            return None
+        found[place] = numbers[graph.nodes[place]]
+    # True and 1 are one key of a dict, but only 1 is an integer.
+    return None if graph.have_booleans(list(numbers)) else found
+
+
+def do_hold(graph, found, p, q, most):
+    """Whether the integers of the places rise as the weights of the steps ask for, and stay below most at each end."""
+    finals = graph.final_weights(p, q)
+    for place, row in enumerate(graph.weights(p, q)):
+        number = found[place]
+        if number is None:
             continue
-        for target, price, change in steps:
-            if numbers[graph.stands[target]] < numbers[stand] + q * price - p * change:
+        if number + finals[place] > most:
+            return False
+        for target, weight in row:
+            if found[target] < number + weight:
                 return False
     return True
 
 
-def are_at_most(graph, numbers, q, most):
-    """Whether each integer plus q times the end price is at most as told."""
-    for stand, price in zip(graph.stands, graph.end_prices):
-        if stand in numbers and numbers[stand] + q * price > most:
-            return False
-    return True
-
-
-def are_integers(numbers):
-    """Whether all values of the dict are integers."""
-    return all([is_integer(number) for number in numbers.values()])
+def node_numbers(graph, sums):
+    """A dict from the nodes of the places to the integers of the places, ascending."""
+    numbers = {graph.nodes[place]: number for place, number in sums.items()}
+    return {node: numbers[node] for node in sorted(numbers)}

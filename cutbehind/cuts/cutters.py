@@ -71,12 +71,9 @@ def _head_of(heads, window):
     return None
 
 
-def _first_of(order, window):
-    """The first piece in the order with which the window begins."""
-    for piece in order:
-        if window.startswith(piece):
-            return piece
-    return None
+def _choices_of(book, order):
+    """For each sign the pieces that begin with it, in the order in which they are tried."""
+    return {sign: [piece for piece in order if piece[0] == sign] for sign in book.alphabet}
 
 
 class Cutter:
@@ -91,6 +88,9 @@ class Cutter:
         self._table = _windows_of(book, table, self._view)
         self._ends = _windows_of(book, ends, self._view - 1)
         self._heads = _shortest_heads(list(self._table))
+        self._choices = _choices_of(book, order)
+        # What other modules found out about the cutter once.
+        self.kept = {}
 
     @classmethod
     def longest_first(cls, book):
@@ -139,7 +139,10 @@ class Cutter:
             head = _head_of(self._heads, window)
             if head is not None:
                 return self._table[head]
-        return _first_of(self._order, window)
+        for piece in self._choices[window[0]]:
+            if window.startswith(piece):
+                return piece
+        return None
 
     def pieces_for(self, text, ended):
         """The pieces that are told for a text; if it may go on, as long as a whole window is seen."""

@@ -1,19 +1,22 @@
 """Fronts of a book: how the least price of a text goes on."""
 
 from cutbehind.base.checks import check_book, check_sign, check_text
+from cutbehind.base.reach import found_once, reach
 from cutbehind.base.signs import is_integer
 from cutbehind.errors import InvalidNumber, InvalidStand
-from cutbehind.fronts.steps import EMPTY_FRONT, front_behind, front_step, has_form_of_front, shortest_texts
+from cutbehind.fronts.steps import front_behind, front_step, has_form_of_front
+from cutbehind.fronts.table import FIRST, front_table
 
 MAX_FRONTS = 2000
 
 
 def _reached_fronts(book):
-    """A dict from each front of a text to a shortest text."""
-    def step(front, sign):
-        return front_step(book, front, sign)[0]
-
-    return shortest_texts(EMPTY_FRONT, book.alphabet, step, MAX_FRONTS)
+    """A dict from each front of a text to a shortest text, or None if there are too many."""
+    table = front_table(book)
+    found = reach(FIRST, book.alphabet, table.fronts_from, MAX_FRONTS)
+    if found is None:
+        return None
+    return {table.front_at(place): text for place, text in zip(found.nodes, found.shortest)}
 
 
 def front_of(book, text):
@@ -38,7 +41,7 @@ class Fronts:
     def __init__(self, book):
         check_book(book)
         self._book = book
-        self._found = _reached_fronts(book)
+        self._found = found_once(book.kept, "reached fronts", lambda: _reached_fronts(book), MAX_FRONTS)
         self._rows = tuple(sorted(self._found))
 
     @property

@@ -1,10 +1,7 @@
-"""Fronts of texts of any length, and how values are reached sign by sign."""
+"""Fronts of texts of any length, without checks."""
 
 from cutbehind.base.least import prices_of_beginnings
-from cutbehind.base.signs import is_integer
-from cutbehind.errors import TooMany
-
-EMPTY_FRONT = ("", ())
+from cutbehind.base.signs import are_integers
 
 
 def has_form_of_front(book, value):
@@ -16,7 +13,7 @@ def has_form_of_front(book, value):
         return False
     if not isinstance(differences, tuple) or len(differences) != len(signs):
         return False
-    return all([is_integer(number) for number in differences])
+    return are_integers(differences)
 
 
 def front_behind(book, text):
@@ -29,37 +26,12 @@ def front_behind(book, text):
 
 def front_step(book, front, sign):
     """The next front, and the change of the least price."""
-    prices = book.prices
     signs, differences = front
     longer = signs + sign
-    costs = [prices[sign]]
-    for piece in prices:
-        if len(piece) > 1 and longer.endswith(piece):
-            costs.append(prices[piece] + differences[len(piece) - 2])
-    change = min(costs)
+    change = book[sign]
+    for piece, many, price in book.ending[sign]:
+        if longer.endswith(piece):
+            change = min(change, price + differences[many - 2])
     many = min(len(longer), book.longest - 1)
     moved = [-change] + [number - change for number in differences]
     return (longer[len(longer) - many:], tuple(moved[:many])), change
-
-
-def shortest_texts(first, alphabet, step, limit):
-    """A dict from each value that is reached to a shortest text, by the number of signs.
-
-    The first value is that of the empty text; step(value, sign) is the next one, or None for one that
-    does not count.
-    """
-    found = {first: ""}
-    values = [first]
-    place = 0
-    while place < len(values):
-        value = values[place]
-        place = place + 1
-        for sign in alphabet:
-            reached = step(value, sign)
-            if reached is None or reached in found:
-                continue
-            if len(found) == limit:
-                raise TooMany(limit)
-            found[reached] = found[value] + sign
-            values.append(reached)
-    return found

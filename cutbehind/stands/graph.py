@@ -1,47 +1,91 @@
-"""The reached stands of a cutter by their numbers, and the steps between them."""
+"""What is reached sign by sign where two sides pay; the stands of a cutter are of this kind."""
 
-from cutbehind.cuts.cutters import check_cutter
-from cutbehind.stands.stands import MAX_STANDS
-from cutbehind.stands.steps import has_form_of_stand, prices_at_end, reached_stands, stand_step
+from cutbehind.base.reach import found_once, reach
+from cutbehind.fronts.table import FIRST, front_table
+from cutbehind.stands.waits import waits_of
 
 
 class Graph:
-    """The stands of a cutter, of which number 0 is that of the empty text."""
+    """Nodes by their places, of which 0 is that of the empty text, each with a shortest text.
 
-    def __init__(self, cutter):
-        check_cutter(cutter)
-        found = reached_stands(cutter, MAX_STANDS)
-        self._cutter = cutter
-        self.signs = cutter.book.alphabet
-        self.stands = list(found)
-        self.shortest = list(found.values())
-        self.places = {stand: place for place, stand in enumerate(self.stands)}
-        self.steps = [self._steps_from(stand) for stand in self.stands]
-        ends = prices_at_end(cutter, [waiting for front, waiting in self.stands])
-        self.end_prices = [ends[waiting] for front, waiting in self.stands]
+    For each place steps has a row with a triple for each sign: the next place, and what the one and the other side pay
+    at this sign. finals has the pair of what they pay if the text ends there.
+    """
 
-    def _steps_from(self, stand):
-        """For each sign the number of the next stand, the price that is told, and the change of the least price."""
-        steps = []
-        for sign in self.signs:
-            further, price, change = stand_step(self._cutter, stand, sign)
-            steps.append((self.places[further], price, change))
-        return steps
+    def __init__(self, alphabet, nodes, shortest, steps, finals):
+        self.signs = alphabet
+        self.nodes = nodes
+        self.shortest = shortest
+        self.steps = steps
+        self.finals = finals
+        self.places = {node: place for place, node in enumerate(nodes)}
+        self.kept = {}
+        self._indexes = {sign: index for index, sign in enumerate(alphabet)}
 
-    def all_places(self):
-        """The numbers of all stands."""
-        return list(range(len(self.stands)))
+    def walk(self, text):
+        """The place to which a text leads, and what both sides have paid when it may go on."""
+        place = 0
+        ones = 0
+        others = 0
+        for sign in text:
+            place, one, other = self.steps[place][self._indexes[sign]]
+            ones = ones + one
+            others = others + other
+        return place, ones, others
+
+    def paid(self, text):
+        """What both sides pay for the whole text."""
+        place, ones, others = self.walk(text)
+        one, other = self.finals[place]
+        return ones + one, others + other
+
+    def weights(self, p, q):
+        """For each place the rows of the next places with q times what the one side pays minus p times the other."""
+        return [[(target, q * one - p * other) for target, one, other in row] for row in self.steps]
+
+    def final_weights(self, p, q):
+        """For each place q times what the one side pays at the end minus p times what the other side pays."""
+        return [q * one - p * other for one, other in self.finals]
 
     def places_behind_signs(self):
-        """The numbers of the stands of texts of at least one sign."""
-        targets = {target: True for steps in self.steps for target, price, change in steps}
-        return [place for place in self.all_places() if place in targets]
+        """The places of the texts of at least one sign, ascending."""
+        targets = {target: True for row in self.steps for target, one, other in row}
+        return [place for place in range(len(self.nodes)) if place in targets]
 
-    def are_keys(self, places, value):
-        """Whether the value is a dict from just the stands with these numbers."""
-        if not isinstance(value, dict) or len(value) != len(places):
-            return False
-        # True and 1 are one key of a dict, but only 1 is an integer.
-        if not all([has_form_of_stand(self._cutter, stand) for stand in value]):
-            return False
-        return all([self.stands[place] in value for place in places])
+    def have_booleans(self, nodes):
+        """Whether True or False stands somewhere in values that equal nodes; in strings none does."""
+        return False
+
+
+class StandGraph(Graph):
+    """The stands of a cutter; the other side pays the least price."""
+
+    def have_booleans(self, nodes):
+        """Whether True or False stands somewhere in values that equal stands."""
+        return any([isinstance(number, bool) for front, waiting in nodes for number in front[1]])
+
+
+def _find_stands(cutter, limit):
+    """The graph of the cutter's stands, or None if there are too many."""
+    table = front_table(cutter.book)
+    waits = waits_of(cutter)
+
+    def follow(stand):
+        front, waiting = stand
+        return list(zip(table.fronts_from(front), waits.left_after(waiting)))
+
+    found = reach((FIRST, ""), cutter.book.alphabet, follow, limit)
+    if found is None:
+        return None
+    steps = []
+    for targets, (front, waiting) in zip(found.targets, found.nodes):
+        steps.append(list(zip(targets, waits.told_after(waiting), table.row_at(front)[1])))
+    nodes = [(table.front_at(front), waiting) for front, waiting in found.nodes]
+    # The changes make up the least price of the whole text, so nothing is added to it at the end.
+    finals = [(waits.at_end(waiting), 0) for front, waiting in found.nodes]
+    return StandGraph(cutter.book.alphabet, nodes, found.shortest, steps, finals)
+
+
+def stand_graph(cutter, limit):
+    """The graph of the cutter's stands, which is found once."""
+    return found_once(cutter.kept, "stands", lambda: _find_stands(cutter, limit), limit)

@@ -4,10 +4,17 @@ from cutbehind.base.checks import check_sign, check_text
 from cutbehind.base.least import prices_of_beginnings
 from cutbehind.cuts.cutters import check_cutter
 from cutbehind.errors import InvalidStand
-from cutbehind.stands.steps import EMPTY_STAND, has_form_of_stand, price_at_end, prices_at_end, reached_stands
+from cutbehind.stands.graph import stand_graph
+from cutbehind.stands.steps import has_form_of_stand, price_at_end, prices_at_end
 from cutbehind.stands.steps import read_sign, spent_behind, stand_behind, stand_step
 
 MAX_STANDS = 2000
+
+
+def graph_of(cutter):
+    """The graph of the cutter's stands."""
+    check_cutter(cutter)
+    return stand_graph(cutter, MAX_STANDS)
 
 
 def _check(cutter, text):
@@ -63,10 +70,9 @@ class Stands:
     """The reached stands of a cutter; it never changes."""
 
     def __init__(self, cutter):
-        check_cutter(cutter)
+        self._graph = graph_of(cutter)
         self._cutter = cutter
-        self._found = reached_stands(cutter, MAX_STANDS)
-        self._rows = tuple(sorted(self._found))
+        self._rows = tuple(sorted(self._graph.nodes))
 
     @property
     def rows(self):
@@ -76,7 +82,7 @@ class Stands:
     @property
     def first(self):
         """The stand of the empty text."""
-        return EMPTY_STAND
+        return self._graph.nodes[0]
 
     def __iter__(self):
         return iter(self._rows)
@@ -86,9 +92,9 @@ class Stands:
 
     def __contains__(self, value):
         # True and 1 are one key of a dict, but only 1 is an integer.
-        return has_form_of_stand(self._cutter, value) and value in self._found
+        return has_form_of_stand(self._cutter, value) and value in self._graph.places
 
     def __getitem__(self, stand):
         if stand not in self:
             raise InvalidStand("no text has this stand")
-        return self._found[stand]
+        return self._graph.shortest[self._graph.places[stand]]

@@ -1,9 +1,7 @@
 """Stands of a cutter that has read a text of any length, without checks."""
 
 from cutbehind.base.least import prices_of_beginnings
-from cutbehind.fronts.steps import front_behind, front_step, has_form_of_front, shortest_texts
-
-EMPTY_STAND = (("", ()), "")
+from cutbehind.fronts.steps import front_behind, front_step, has_form_of_front
 
 
 def has_form_of_stand(cutter, value):
@@ -14,7 +12,7 @@ def has_form_of_stand(cutter, value):
     return has_form_of_front(cutter.book, front) and cutter.book.accepts(waiting) and len(waiting) < cutter.view
 
 
-def price_for(cutter, pieces):
+def _price_for(cutter, pieces):
     """The price of pieces that the cutter told."""
     prices = cutter.book.prices
     return sum([prices[piece] for piece in pieces])
@@ -28,7 +26,7 @@ def stand_behind(cutter, text):
 
 def spent_behind(cutter, text):
     """The price of what the cutter has told when it has read the text, and the least price of the text."""
-    return price_for(cutter, cutter.pieces_for(text, False)), prices_of_beginnings(cutter.book, text)[-1]
+    return _price_for(cutter, cutter.pieces_for(text, False)), prices_of_beginnings(cutter.book, text)[-1]
 
 
 def read_sign(cutter, waiting, sign):
@@ -42,7 +40,7 @@ def read_sign(cutter, waiting, sign):
 
 def price_at_end(cutter, waiting):
     """The price of the pieces that are told for waiting signs when the text ends."""
-    return price_for(cutter, cutter.pieces_for(waiting, True))
+    return _price_for(cutter, cutter.pieces_for(waiting, True))
 
 
 def prices_at_end(cutter, waitings):
@@ -61,11 +59,3 @@ def stand_step(cutter, stand, sign):
     further, change = front_step(cutter.book, front, sign)
     left, price = read_sign(cutter, waiting, sign)
     return (further, left), price, change
-
-
-def reached_stands(cutter, limit):
-    """A dict from each stand of a text to a shortest text, by the number of signs."""
-    def step(stand, sign):
-        return stand_step(cutter, stand, sign)[0]
-
-    return shortest_texts(EMPTY_STAND, cutter.book.alphabet, step, limit)

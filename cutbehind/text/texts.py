@@ -22,12 +22,12 @@ def _lines_of(text):
     return [line.split(" ") for line in text.split("\n")]
 
 
-def _is_word(string):
+def is_word(string):
     """Whether the string is of one or more letters a to z."""
     return string.isascii() and string.isalpha() and string.islower()
 
 
-def _is_number(string):
+def is_number(string):
     """Whether the string is an integer of at most sixty digits, as str writes it."""
     digits = string.removeprefix("-")
     # The length comes first: Python refuses to read very long integers.
@@ -39,12 +39,12 @@ def _is_number(string):
 def _has_form(words):
     """Whether these are the words of a line of a cutter."""
     if words[0] in ("piece", "table", "end"):
-        if len(words) != 3 or not _is_word(words[1]):
+        if len(words) != 3 or not is_word(words[1]):
             return False
-        return _is_number(words[2]) if words[0] == "piece" else _is_word(words[2])
+        return is_number(words[2]) if words[0] == "piece" else is_word(words[2])
     if words[0] == "order":
-        return len(words) > 1 and all([_is_word(word) for word in words])
-    return words[0] == "view" and len(words) == 2 and _is_number(words[1])
+        return len(words) > 1 and all([is_word(word) for word in words])
+    return words[0] == "view" and len(words) == 2 and is_number(words[1])
 
 
 def _check_lines(lines):
@@ -84,7 +84,7 @@ def read_book(text):
     prices = {}
     last = ""
     for index, words in enumerate(_lines_of(text)):
-        if len(words) != 2 or not _is_word(words[0]) or not _is_number(words[1]):
+        if len(words) != 2 or not is_word(words[0]) or not is_number(words[1]):
             raise ParseError(index)
         if words[0] <= last:
             raise ParseError(index)

@@ -1,9 +1,10 @@
 """Pieces that are safe at a text: no continuation makes them a loss."""
 
 from cutbehind.base.checks import check_book, check_sign, check_text
+from cutbehind.base.reach import NOWHERE
 from cutbehind.errors import InvalidOperation, InvalidStand, UnknownPiece
-from cutbehind.view.besides import beside_behind, beside_step, besides_without_loss, check_few
-from cutbehind.view.besides import has_form_of_beside, loss_behind
+from cutbehind.view.besides import beside_behind, beside_step, has_form_of_beside
+from cutbehind.view.tracks import track_of
 
 MAX_BESIDES = 2000
 
@@ -17,33 +18,23 @@ def _check(book, text, piece):
         raise InvalidOperation("the text does not begin with the piece")
 
 
-def _check_with_limit(book, text, piece):
+def _track_for(book, text, piece):
+    """The track of the piece, and the place to which the text leads."""
     _check(book, text, piece)
-    check_few(book, piece, MAX_BESIDES)
-
-
-def _first_loss(book, start):
-    """A shortest text behind which the piece has a loss, from its beside on, or None; and the besides without one."""
-    if start[1][0] > 0:
-        return "", {}
-    # They are besides of texts at which the piece is not lost, so the limit holds for them.
-    besides = besides_without_loss(book, start, MAX_BESIDES)
-    for beside, text in besides.items():
-        for sign in book.alphabet:
-            if beside_step(book, beside, sign)[1][0] > 0:
-                return text + sign, besides
-    return None, besides
+    track = track_of(book, piece, MAX_BESIDES)
+    return track, track.place_behind(text)
 
 
 def is_safe(book, text, piece):
     """Whether the piece is safe at the text."""
-    return against(book, text, piece) is None
+    track, place = _track_for(book, text, piece)
+    return track.is_safe_at(place)
 
 
 def against(book, text, piece):
     """A shortest continuation against the piece at the text, or None."""
-    _check_with_limit(book, text, piece)
-    return _first_loss(book, beside_behind(book, text, piece))[0]
+    track, place = _track_for(book, text, piece)
+    return track.continuation(place)
 
 
 def safe_pieces(book, text):
@@ -69,32 +60,47 @@ def next_beside(book, beside, sign):
 
 def safe_paper(book, text, piece):
     """The besides that show that the piece is safe at the text, or a continuation against it."""
-    _check_with_limit(book, text, piece)
-    continuation, besides = _first_loss(book, beside_behind(book, text, piece))
-    if continuation is not None:
-        return ("against", continuation)
-    return ("safe", tuple(sorted(besides)))
+    track, place = _track_for(book, text, piece)
+    if not track.is_safe_at(place):
+        return ("against", track.continuation(place))
+    besides = track.besides()
+    return ("safe", tuple(sorted([besides[reached] for reached in track.places_from(place)])))
 
 
-def _are_closed(book, start, besides):
-    """Whether these are ascending besides without first losses, with the start and all that follow."""
-    if not isinstance(besides, tuple) or not all([has_form_of_beside(book, beside) for beside in besides]):
+def _are_closed(book, track, place, besides):
+    """Whether these are besides without first losses, with that of a place, and with whatever follows from them."""
+    known = {beside: track.place_of(beside) for beside in besides}
+    places = {reached: True for reached in known.values() if reached != NOWHERE}
+    if place not in places or list(besides) != sorted(known):
         return False
-    known = {beside: True for beside in besides}
-    if list(besides) != sorted(known) or start not in known:
-        return False
-    for beside in besides:
-        if beside[1][0] > 0 or not all([beside_step(book, beside, sign) in known for sign in book.alphabet]):
+    for beside, found in known.items():
+        if beside[1][0] > 0:
+            return False
+        if found != NOWHERE:
+            inside = [target in places for target in track.targets[found]]
+        else:
+            inside = [beside_step(book, beside, sign) in known for sign in book.alphabet]
+        if not all(inside):
             return False
     return True
 
 
+def _shows_safe(book, track, place, besides):
+    """Whether these besides show that the piece is safe at the texts that lead to this place."""
+    if place == NOWHERE or not isinstance(besides, tuple):
+        return False
+    # Only besides of the right form can be looked up and compared.
+    if not all([has_form_of_beside(book, beside) for beside in besides]):
+        return False
+    return _are_closed(book, track, place, besides)
+
+
 def is_safe_paper(book, text, piece, value):
     """Whether the value shows that the piece is safe at the text, or that it is not."""
-    _check_with_limit(book, text, piece)
+    track, place = _track_for(book, text, piece)
     if not isinstance(value, tuple) or len(value) != 2:
         return False
     kind, shown = value
     if kind == "safe":
-        return _are_closed(book, beside_behind(book, text, piece), shown)
-    return kind == "against" and book.accepts(shown) and loss_behind(book, text + shown, piece) > 0
+        return _shows_safe(book, track, place, shown)
+    return kind == "against" and book.accepts(shown) and track.has_loss_at(track.place_from(place, shown))

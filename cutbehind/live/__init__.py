@@ -1,0 +1,1 @@
+"""Texts that are read and edited while they are cut."""

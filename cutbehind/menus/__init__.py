@@ -1,0 +1,1 @@
+"""Menus of further pieces."""

@@ -1,0 +1,1 @@
+"""Pairs of texts and of cutters: races, and edits."""
