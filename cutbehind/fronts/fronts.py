@@ -1,22 +1,26 @@
 """Fronts of a book: how the least price of a text goes on."""
 
-from cutbehind.base.checks import check_book, check_sign, check_text
+from cutbehind.base.checks import check_book, check_count, check_sign, check_text
 from cutbehind.base.reach import found_once, reach
-from cutbehind.base.signs import is_integer
-from cutbehind.errors import InvalidNumber, InvalidStand
+from cutbehind.errors import InvalidStand
 from cutbehind.fronts.steps import front_behind, front_step, has_form_of_front
 from cutbehind.fronts.table import FIRST, front_table
 
 MAX_FRONTS = 2000
 
 
-def _reached_fronts(book):
+def _find_fronts(book):
     """A dict from each front of a text to a shortest text, or None if there are too many."""
     table = front_table(book)
     found = reach(FIRST, book.alphabet, table.fronts_from, MAX_FRONTS)
     if found is None:
         return None
     return {table.front_at(place): text for place, text in zip(found.nodes, found.shortest)}
+
+
+def _reached_fronts(book):
+    """The dict of the fronts, which is found once."""
+    return found_once(book.kept, "reached fronts", lambda: _find_fronts(book), MAX_FRONTS)
 
 
 def front_of(book, text):
@@ -41,7 +45,7 @@ class Fronts:
     def __init__(self, book):
         check_book(book)
         self._book = book
-        self._found = found_once(book.kept, "reached fronts", lambda: _reached_fronts(book), MAX_FRONTS)
+        self._found = _reached_fronts(book)
         self._rows = tuple(sorted(self._found))
 
     @property
@@ -71,6 +75,5 @@ class Fronts:
 
     def layer(self, many):
         """The fronts whose shortest texts have so many signs, ascending."""
-        if not is_integer(many) or many < 0:
-            raise InvalidNumber(many)
+        check_count(many)
         return tuple([front for front in self._rows if len(self._found[front]) == many])

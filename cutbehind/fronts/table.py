@@ -49,7 +49,9 @@ class FrontTable:
 
     def fronts_from(self, place):
         """For each sign the number of the next front."""
-        return self.row_at(place)[0]
+        if place not in self._rows:
+            self._rows[place] = self._find_row(place)
+        return self._rows[place][0]
 
     def _find_row(self, place):
         signs, changes = self._known[place]
@@ -63,17 +65,14 @@ class FrontTable:
                 if price + differences[back - 1] < change:
                     change = price + differences[back - 1]
             told.append(change)
-            further.append(self._number_of((next_signs, (change,) + kept)) if next_signs else FIRST)
+            front = (next_signs, (change,) + kept) if next_signs else ("", ())
+            number = self._places.get(front)
+            if number is None:
+                number = len(self._known)
+                self._places[front] = number
+                self._known.append(front)
+            further.append(number)
         return further, told, differences, endings
-
-    def _number_of(self, value):
-        """The number of a front, which is a new one if it was not known."""
-        place = self._places.get(value)
-        if place is None:
-            place = len(self._known)
-            self._places[value] = place
-            self._known.append(value)
-        return place
 
     def _endings_behind(self, signs):
         """For each further sign: the next signs, the price of the sign, and the longer pieces that end with it."""

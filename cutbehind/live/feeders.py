@@ -1,6 +1,6 @@
 """Feeders: texts that come in parts, and pieces that are told as soon as they can be."""
 
-from cutbehind.base.checks import check_book, check_text
+from cutbehind.base.checks import check_book, check_count, check_text
 from cutbehind.base.least import prices_of_beginnings
 from cutbehind.base.signs import is_integer
 from cutbehind.cuts.cuts import cheapest
@@ -169,8 +169,7 @@ class Feeder:
 
     def undo(self, *, many=1):
         """Takes back so many calls; how many are left."""
-        if not is_integer(many) or many < 0:
-            raise InvalidNumber(many)
+        check_count(many)
         if many > len(self._reading.calls):
             raise NothingToUndo(many)
         self._reading = self._reading.before_calls(many)

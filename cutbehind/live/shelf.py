@@ -1,10 +1,10 @@
 """Shelves: texts under names, cut by one cutter while they are edited."""
 
-from cutbehind.base.checks import check_text
-from cutbehind.base.signs import is_integer, is_text
+from cutbehind.base.checks import check_count, check_text
+from cutbehind.base.signs import is_text
 from cutbehind.bounds.excess import greatest_excess
 from cutbehind.cuts.cutters import check_cutter
-from cutbehind.errors import InvalidNumber, InvalidOperation, InvalidText, NothingToUndo, TooFar, TooMany, UnknownText
+from cutbehind.errors import InvalidOperation, InvalidText, NothingToUndo, TooFar, TooMany, UnknownText
 from cutbehind.pairs.edits import cuts_compared, edited
 
 MAX_TEXTS = 50
@@ -26,11 +26,6 @@ def _check_texts(book, texts):
             raise InvalidText("a name or a text is not one")
     if len(texts) > MAX_TEXTS:
         raise TooMany(MAX_TEXTS)
-
-
-def _check_many(many):
-    if not is_integer(many) or many < 0:
-        raise InvalidNumber(many)
 
 
 def _check_call(call):
@@ -239,7 +234,7 @@ class Shelf:
 
     def undo(self, *, many=1):
         """Takes back so many changes; how many can still be taken back."""
-        _check_many(many)
+        check_count(many)
         self._check_no_block()
         if many > len(self._done):
             raise NothingToUndo(many)
@@ -253,7 +248,7 @@ class Shelf:
 
     def redo(self, *, many=1):
         """Makes so many changes again that were taken back; how many can be taken back then."""
-        _check_many(many)
+        check_count(many)
         self._check_no_block()
         if many > len(self._undone):
             raise NothingToUndo(many)
@@ -285,7 +280,7 @@ class Guard:
     """A greatest amount by which a cutter may be behind on a text."""
 
     def __init__(self, most):
-        _check_many(most)
+        check_count(most)
         self._most = most
 
     @property
@@ -302,7 +297,7 @@ class Guard:
     def is_needless(cutter, most):
         """Whether the cutter is behind by at most this amount on all texts."""
         check_cutter(cutter)
-        _check_many(most)
+        check_count(most)
         greatest = greatest_excess(cutter)
         return greatest is not None and greatest <= most
 

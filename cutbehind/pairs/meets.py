@@ -5,7 +5,7 @@ distance: the number of signs from it to the end of what was read. Distances are
 """
 
 from cutbehind.base.reach import NOWHERE, found_once, ring_beyond, settled_places
-from cutbehind.stands.waits import waits_of
+from cutbehind.stands.waits import do_many_wait, waits_of
 
 
 class Meeting:
@@ -21,15 +21,15 @@ class Meeting:
         self.rest = rest
 
 
-def _short_texts(cutter, limit):
-    """All texts with fewer signs than the view, or None if they are more than the limit."""
+def _short_texts(cutter):
+    """All texts with fewer signs than the view."""
     found = [""]
     done = 0
-    while done < len(found) <= limit:
+    while done < len(found):
         if len(found[done]) + 1 < cutter.view:
             found.extend([found[done] + sign for sign in cutter.book.alphabet])
         done = done + 1
-    return found if len(found) <= limit else None
+    return found
 
 
 def _distances_at_end(cutter, waiting):
@@ -151,9 +151,8 @@ class Search:
         return self._best
 
     def _go_to_the_end(self, states, targets, settled):
-        """Tries what follows the rests; for each state the last is best: the common boundary, from the end of what
-        was read on, and the signs that lead to it.
-        """
+        """Tries what follows the rests."""
+        # For each state, from what was read on: the greatest least common boundary, and the signs that lead to it.
         ahead = {}
         for place in settled:
             longer, many = states[place]
@@ -180,8 +179,7 @@ def _state_of(waiting, other):
 
 def _find_meeting(cutter, limit):
     """The meeting for all texts, or None if more texts than the limit have fewer signs than the view."""
-    texts = _short_texts(cutter, limit)
-    return None if texts is None else Search(cutter, texts).meeting()
+    return None if do_many_wait(cutter, limit) else Search(cutter, _short_texts(cutter)).meeting()
 
 
 def meeting_of(cutter, limit):

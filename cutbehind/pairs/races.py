@@ -8,13 +8,15 @@ from cutbehind.bounds.ratios import is_ratio_paper, least_ratio, ratio_paper
 from cutbehind.cuts.cutters import check_cutter
 from cutbehind.errors import InvalidOperation, InvalidStand, TooMany
 from cutbehind.stands.graph import Graph
-from cutbehind.stands.waits import waits_of
+from cutbehind.stands.waits import do_many_wait, waits_of
 
 MAX_PAIRS = 2000
 
 
 def _find_pairs(one, other):
     """The graph of the pairs of what waits in both cutters, where both sides pay for what is told."""
+    if do_many_wait(one, MAX_PAIRS) or do_many_wait(other, MAX_PAIRS):
+        raise TooMany(MAX_PAIRS)
     left, right = waits_of(one), waits_of(other)
 
     def follow(pair):

@@ -2,7 +2,7 @@
 
 from cutbehind.base.reach import found_once, reach
 from cutbehind.fronts.table import FIRST, front_table
-from cutbehind.stands.waits import waits_of
+from cutbehind.stands.waits import do_many_wait, waits_of
 
 
 class Graph:
@@ -67,6 +67,8 @@ class StandGraph(Graph):
 
 def _find_stands(cutter, limit):
     """The graph of the cutter's stands, or None if there are too many."""
+    if do_many_wait(cutter, limit):
+        return None
     table = front_table(cutter.book)
     waits = waits_of(cutter)
 

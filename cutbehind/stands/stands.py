@@ -53,15 +53,23 @@ def end_price(cutter, stand):
     return price_at_end(cutter, stand[1])
 
 
+def _seeing_less(cutter):
+    """A cutter that cuts each text alike, but sees no more signs than can matter."""
+    far = [len(text) for text in cutter.order + tuple(cutter.table)] + [len(text) + 1 for text in cutter.ends]
+    return cutter.with_view(max(far)) if max(far) < cutter.view else cutter
+
+
 def behind_along(cutter, text):
     """The amounts by which the cutter is behind on each beginning of the text."""
     _check(cutter, text)
+    # With a long view many signs wait, which would be cut again and again.
+    reader = _seeing_less(cutter)
     rows = [("", 0)]
     for sign in text:
         waiting, price = rows[-1]
-        left, told = read_sign(cutter, waiting, sign)
+        left, told = read_sign(reader, waiting, sign)
         rows.append((left, price + told))
-    ends = prices_at_end(cutter, [waiting for waiting, price in rows])
+    ends = prices_at_end(reader, [waiting for waiting, price in rows])
     least = prices_of_beginnings(cutter.book, text)
     return tuple([price + ends[waiting] - cheapest for (waiting, price), cheapest in zip(rows, least)])
 

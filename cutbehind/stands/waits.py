@@ -51,6 +51,18 @@ class Waits:
         return total
 
 
+def do_many_wait(cutter, limit):
+    """Whether more texts than the limit have fewer signs than the view: each of them waits as a whole."""
+    layer = 1
+    many = 1
+    for _ in range(cutter.view - 1):
+        layer = layer * len(cutter.book.alphabet)
+        many = many + layer
+        if many > limit:
+            return True
+    return False
+
+
 def waits_of(cutter):
     """The waits of the cutter, which are made once."""
     if "waits" not in cutter.kept:

@@ -92,12 +92,13 @@ def _redo(cutter, shelf, words):
     return "done"
 
 
+def _shown(name, text, price):
+    """The line of a text on the shelf; the empty text leaves no second blank."""
+    return f"{name} {text} for {price}" if text else f"{name} for {price}"
+
+
 def _list(cutter, shelf, words):
-    rows = []
-    for name in shelf.names:
-        # The empty text leaves no second blank.
-        shown = f"{name} {shelf[name]}" if shelf[name] else name
-        rows.append(f"{shown} for {shelf.price(name)}")
+    rows = [_shown(name, shelf[name], shelf.price(name)) for name in shelf.names]
     return "\n".join(rows) if rows else "none"
 
 
