@@ -52,5 +52,5 @@ def do_hold(graph, found, p, q, most):
 
 def node_numbers(graph, sums):
     """A dict from the nodes of the places to the integers of the places, ascending."""
-    numbers = {graph.nodes[place]: number for place, number in sums.items()}
-    return {node: numbers[node] for node in sorted(numbers)}
+    places = [(node, graph.places[node]) for node in graph.ascending()]
+    return {node: sums[place] for node, place in places if place in sums}

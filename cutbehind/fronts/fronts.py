@@ -10,12 +10,13 @@ MAX_FRONTS = 2000
 
 
 def _find_fronts(book):
-    """A dict from each front of a text to a shortest text, or None if there are too many."""
+    """A dict from each front of a text, ascending, to a shortest text; or None if there are too many."""
     table = front_table(book)
-    found = reach(FIRST, book.alphabet, table.fronts_from, MAX_FRONTS)
-    if found is None:
+    if table.has_more_than(MAX_FRONTS):
         return None
-    return {table.front_at(place): text for place, text in zip(found.nodes, found.shortest)}
+    found = reach(FIRST, book.alphabet, table.fronts_from, MAX_FRONTS)
+    texts = {table.front_at(place): text for place, text in zip(found.nodes, found.shortest)}
+    return {front: texts[front] for front in sorted(texts)}
 
 
 def _reached_fronts(book):
@@ -46,7 +47,7 @@ class Fronts:
         check_book(book)
         self._book = book
         self._found = _reached_fronts(book)
-        self._rows = tuple(sorted(self._found))
+        self._rows = tuple(self._found)
 
     @property
     def rows(self):

@@ -53,6 +53,14 @@ class FrontTable:
             self._rows[place] = self._find_row(place)
         return self._rows[place][0]
 
+    def has_more_than(self, limit):
+        """Whether the book has more fronts than the limit; each front that is known is that of some text."""
+        place = 0
+        while place < len(self._known) <= limit:
+            self.row_at(place)
+            place = place + 1
+        return len(self._known) > limit
+
     def _find_row(self, place):
         signs, changes = self._known[place]
         differences = _differences(changes)

@@ -43,7 +43,7 @@ class Race:
         self._one = one
         self._other = other
         self._graph = _find_pairs(one, other)
-        self._pairs = tuple(sorted(self._graph.nodes))
+        self._pairs = self._graph.ascending()
 
     @property
     def one(self):

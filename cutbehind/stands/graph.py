@@ -20,7 +20,14 @@ class Graph:
         self.finals = finals
         self.places = {node: place for place, node in enumerate(nodes)}
         self.kept = {}
+        self._ascending = ()
         self._indexes = {sign: index for index, sign in enumerate(alphabet)}
+
+    def ascending(self):
+        """The nodes, ascending."""
+        if not self._ascending:
+            self._ascending = tuple(sorted(self.nodes))
+        return self._ascending
 
     def walk(self, text):
         """The place to which a text leads, and what both sides have paid when it may go on."""

@@ -80,7 +80,7 @@ class Stands:
     def __init__(self, cutter):
         self._graph = graph_of(cutter)
         self._cutter = cutter
-        self._rows = tuple(sorted(self._graph.nodes))
+        self._rows = self._graph.ascending()
 
     @property
     def rows(self):
