@@ -320,16 +320,11 @@ class Trials(unittest.TestCase):
             trial = feeder.trial()
             feeder.feed("b")
             before = state(feeder)
-            with trial:
-                feeder.feed("a")
+            for part in ("a", "bb"):
                 with trial:
+                    feeder.feed(part)
                     feeder.end()
-                self.assertEqual(feeder.text, "abbaba")
-                self.assertFalse(feeder.is_ended)
-            self.assertEqual(state(feeder), before)
-            with trial:
-                feeder.end()
-            self.assertEqual(state(feeder), before)
+                self.assertEqual(state(feeder), before)
 
     def test_during(self):
         for feeder in self.make():

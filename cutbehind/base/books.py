@@ -26,11 +26,8 @@ def _signs_in(pieces):
 
 def _longer_pieces(prices, alphabet, place):
     """For each sign the pieces of several signs that have it at this place, with their numbers of signs and prices."""
-    found = {sign: [] for sign in alphabet}
-    for piece, price in prices.items():
-        if len(piece) > 1:
-            found[piece[place]].append((piece, len(piece), price))
-    return found
+    longer = [(piece, len(piece), price) for piece, price in prices.items() if len(piece) > 1]
+    return {sign: [entry for entry in longer if entry[0][place] == sign] for sign in alphabet}
 
 
 def _are_prices(value):

@@ -39,29 +39,20 @@ class Reading:
         return Reading(self.signs + signs, self.known + pieces, place, fan, closed, self.calls + (call,))
 
 
-class Held:
-    """A reading to which a feeder returns, and the one that was held before."""
-
-    def __init__(self, reading, outer):
-        self.reading = reading
-        self.outer = outer
-
-
 class Trial:
     """A block behind which a feeder is as before."""
 
     def __init__(self, feeder):
         self._feeder = feeder
-        self._held = None
+        self._before = None
 
     def __enter__(self):
-        self._held = Held(self._feeder._reading, self._held)
+        self._before = self._feeder._reading
         return self._feeder
 
     def __exit__(self, kind, value, trace):
         feeder = self._feeder
-        feeder._reading = self._held.reading
-        self._held = self._held.outer
+        feeder._reading = self._before
 
 
 class Feeder:

@@ -122,7 +122,10 @@ class Track:
 
     def place_of(self, beside):
         """The place of a value with the form of a beside, or NOWHERE."""
-        return self._places.get(beside, NOWHERE) if self.besides() else NOWHERE
+        # The places are known as soon as the besides were asked for.
+        if not self._places:
+            self.besides()
+        return self._places.get(beside, NOWHERE)
 
     def places_from(self, place):
         """The places to which texts lead from a place on, at which the piece is safe."""
