@@ -6,7 +6,7 @@ from cutbehind.bounds.excess import is_never_behind
 from cutbehind.bounds.firsts import first_text_above
 from cutbehind.cuts.cutters import Cutter, check_cutter
 from cutbehind.errors import InvalidCutter, InvalidMenu, InvalidOperation, TooMany
-from cutbehind.stands.stands import graph_of
+from cutbehind.stands.stands import check_stands, graph_of
 
 MAX_MENU = 6
 
@@ -72,7 +72,7 @@ class Menu:
         self._offers = {piece: pieces[piece] for piece in self._names}
         self._cutters = {part: _cutter_with(cutter, self._offers, part) for part in _all_parts(self._names)}
         for changed in self._cutters.values():
-            graph_of(changed)
+            check_stands(changed)
 
     @property
     def cutter(self):

@@ -65,7 +65,7 @@ class Graph:
 
 
 class StandGraph(Graph):
-    """The stands of a cutter; the other side pays the least price."""
+    """The stands of a cutter; the other side pays the least price of the text."""
 
     def have_booleans(self, nodes):
         """Whether True or False stands somewhere in values that equal stands."""
@@ -73,7 +73,7 @@ class StandGraph(Graph):
 
 
 def _find_stands(cutter, limit):
-    """The graph of the cutter's stands, or None if there are too many."""
+    """The stands as pairs of the front's number and what waits, or None if there are too many."""
     if do_many_wait(cutter, limit):
         return None
     table = front_table(cutter.book)
@@ -83,18 +83,47 @@ def _find_stands(cutter, limit):
         front, waiting = stand
         return list(zip(table.fronts_from(front), waits.left_after(waiting)))
 
-    found = reach((FIRST, ""), cutter.book.alphabet, follow, limit)
-    if found is None:
-        return None
+    return reach((FIRST, ""), cutter.book.alphabet, follow, limit)
+
+
+def _reached_stands(cutter, limit):
+    return found_once(cutter.kept, "stands", lambda: _find_stands(cutter, limit), limit)
+
+
+def check_few_stands(cutter, limit):
+    """Refuses a cutter with more stands than the limit."""
+    _reached_stands(cutter, limit)
+
+
+def _stands_in_order(cutter, found):
+    """The stands in the order in which they are reached."""
+    table = front_table(cutter.book)
+    return [(table.front_at(front), waiting) for front, waiting in found.nodes]
+
+
+def shortest_texts(cutter, limit):
+    """A dict from the cutter's stands, ascending, to shortest texts."""
+    if "texts of stands" not in cutter.kept:
+        found = _reached_stands(cutter, limit)
+        texts = dict(zip(_stands_in_order(cutter, found), found.shortest))
+        cutter.kept["texts of stands"] = {stand: texts[stand] for stand in sorted(texts)}
+    return cutter.kept["texts of stands"]
+
+
+def _graph_from(cutter, found):
+    """The graph of the cutter's stands."""
+    table = front_table(cutter.book)
+    waits = waits_of(cutter)
     steps = []
     for targets, (front, waiting) in zip(found.targets, found.nodes):
         steps.append(list(zip(targets, waits.told_after(waiting), table.row_at(front)[1])))
-    nodes = [(table.front_at(front), waiting) for front, waiting in found.nodes]
     # The changes make up the least price of the whole text, so nothing is added to it at the end.
     finals = [(waits.at_end(waiting), 0) for front, waiting in found.nodes]
-    return StandGraph(cutter.book.alphabet, nodes, found.shortest, steps, finals)
+    return StandGraph(cutter.book.alphabet, _stands_in_order(cutter, found), found.shortest, steps, finals)
 
 
 def stand_graph(cutter, limit):
-    """The graph of the cutter's stands, which is found once."""
-    return found_once(cutter.kept, "stands", lambda: _find_stands(cutter, limit), limit)
+    """The graph of the cutter's stands, which is made once."""
+    if "graph" not in cutter.kept:
+        cutter.kept["graph"] = _graph_from(cutter, _reached_stands(cutter, limit))
+    return cutter.kept["graph"]

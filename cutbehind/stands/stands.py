@@ -4,17 +4,24 @@ from cutbehind.base.checks import check_sign, check_text
 from cutbehind.base.least import prices_of_beginnings
 from cutbehind.cuts.cutters import check_cutter
 from cutbehind.errors import InvalidStand
-from cutbehind.stands.graph import stand_graph
+from cutbehind.stands.graph import check_few_stands, shortest_texts, stand_graph
 from cutbehind.stands.steps import has_form_of_stand, price_at_end, prices_at_end
 from cutbehind.stands.steps import read_sign, spent_behind, stand_behind, stand_step
 
 MAX_STANDS = 2000
+EMPTY_STAND = (("", ()), "")
 
 
 def graph_of(cutter):
     """The graph of the cutter's stands."""
     check_cutter(cutter)
     return stand_graph(cutter, MAX_STANDS)
+
+
+def check_stands(cutter):
+    """Refuses what is not a cutter, or has too many stands."""
+    check_cutter(cutter)
+    check_few_stands(cutter, MAX_STANDS)
 
 
 def _check(cutter, text):
@@ -78,9 +85,10 @@ class Stands:
     """The reached stands of a cutter; it never changes."""
 
     def __init__(self, cutter):
-        self._graph = graph_of(cutter)
+        check_cutter(cutter)
         self._cutter = cutter
-        self._rows = self._graph.ascending()
+        self._found = shortest_texts(cutter, MAX_STANDS)
+        self._rows = tuple(self._found)
 
     @property
     def rows(self):
@@ -90,7 +98,7 @@ class Stands:
     @property
     def first(self):
         """The stand of the empty text."""
-        return self._graph.nodes[0]
+        return EMPTY_STAND
 
     def __iter__(self):
         return iter(self._rows)
@@ -100,9 +108,9 @@ class Stands:
 
     def __contains__(self, value):
         # True and 1 are one key of a dict, but only 1 is an integer.
-        return has_form_of_stand(self._cutter, value) and value in self._graph.places
+        return has_form_of_stand(self._cutter, value) and value in self._found
 
     def __getitem__(self, stand):
         if stand not in self:
             raise InvalidStand("no text has this stand")
-        return self._graph.shortest[self._graph.places[stand]]
+        return self._found[stand]
